@@ -1,0 +1,184 @@
+"""The package keeps to LANGUAGE.md, as far as its rows can be seen in the written program."""
+
+import ast
+import builtins
+import pathlib
+import re
+import unittest
+
+PACKAGE = pathlib.Path(__file__).resolve().parent.parent / "shutpairs"
+FILES = sorted(path for path in PACKAGE.rglob("*.py"))
+
+OWN_NAMES = set("""
+    len range enumerate zip min max sum abs sorted reversed int str bool list tuple dict set frozenset isinstance
+    ord repr any all divmod Exception ValueError TypeError KeyError IndexError LookupError ZeroDivisionError
+    ArithmeticError OverflowError RuntimeError NotImplementedError AttributeError StopIteration
+""".split())
+OWN_METHODS = set("""
+    append clear copy count endswith extend find get index insert isalnum isalpha isdigit islower isspace isupper
+    items join keys ljust lower lstrip partition pop remove replace reverse rfind rjust rpartition rsplit rstrip
+    setdefault split splitlines startswith strip update upper values zfill bit_length
+""".split())
+TWO_UNDERSCORES = {"__init__", "__eq__", "__repr__", "__str__", "__len__"}
+WORDS_NOWHERE = re.compile(
+    r"\b(type|typing|typing_extensions|enum|Enum|IntEnum|StrEnum|Flag|IntFlag|Generic|Protocol|ABC|ABCMeta|namedtuple"
+    r"|NamedTuple|TypedDict|TYPE_CHECKING|abstractmethod)\b|dataclass|overload|contextmanager"
+)
+NODES = tuple(getattr(ast, name) for name in """
+    Module ImportFrom alias FunctionDef ClassDef Lambda arguments arg
+    Assign AugAssign If While For Return Break Continue Pass Raise Try ExceptHandler Expr
+    Constant List Tuple Dict Set Name Attribute Subscript Slice Call keyword ListComp comprehension
+    BinOp UnaryOp BoolOp Compare IfExp JoinedStr FormattedValue expr_context
+    Add Sub Mult FloorDiv Mod Pow BitAnd BitOr BitXor LShift RShift UAdd USub Invert Not And Or cmpop
+""".split())
+TOP_NODES = (ast.ImportFrom, ast.FunctionDef, ast.ClassDef, ast.Assign)
+
+
+def tree_of(path):
+    return ast.parse(path.read_text(encoding="utf-8"))
+
+
+def nodes_of(path, *kinds):
+    return [node for node in ast.walk(tree_of(path)) if isinstance(node, kinds)]
+
+
+DEFINED = {node.name for path in FILES for node in nodes_of(path, ast.FunctionDef)}
+
+
+def is_docstring(node):
+    return isinstance(node, ast.Expr) and isinstance(node.value, ast.Constant) and isinstance(node.value.value, str)
+
+
+def names_bound(tree):
+    bound = []
+    for node in tree.body:
+        if isinstance(node, (ast.FunctionDef, ast.ClassDef)):
+            bound.append(node.name)
+        elif isinstance(node, ast.ImportFrom):
+            bound.extend(alias.asname or alias.name for alias in node.names)
+        elif isinstance(node, ast.Assign):
+            bound.extend(target.id for target in node.targets)
+    return bound
+
+
+class Language(unittest.TestCase):
+    def each(self, check, *kinds):
+        for path in FILES:
+            for node in nodes_of(path, *kinds):
+                with self.subTest(file=path.name, line=getattr(node, "lineno", None)):
+                    check(node)
+
+    def test_files(self):
+        self.assertIn(PACKAGE / "__init__.py", FILES)
+        for path in PACKAGE.rglob("*"):
+            if "__pycache__" not in path.parts:
+                self.assertRegex(path.name, r"^[a-z0-9_]+\.py$")
+                self.assertNotIn(path.stem, dir(builtins))
+                self.assertNotRegex(path.stem, r"^(test.*|site|conftest|sitecustomize|usercustomize)$")
+
+    def test_signs_and_sizes(self):
+        for path in FILES:
+            text = path.read_text(encoding="utf-8")
+            self.assertRegex(text, r"\A[\n -~]*\Z", path.name)
+            self.assertNotRegex(text, WORDS_NOWHERE, path.name)
+            rows = text.split("\n")
+            self.assertLessEqual(len(rows), 400, path.name)
+            self.assertLessEqual(max(map(len, rows)), 120, path.name)
+
+    def test_functions(self):
+        self.each(self.check_functions, ast.FunctionDef)
+
+    def check_functions(self, node):
+        self.assertLessEqual(node.end_lineno - node.lineno + 1, 40)
+        self.assertEqual(node.decorator_list, [])
+        given = node.args
+        self.assertFalse(given.vararg or given.kwarg or given.kwonlyargs or given.posonlyargs)
+
+    def test_classes(self):
+        self.each(self.check_classes, ast.ClassDef)
+
+    def check_classes(self, node):
+        self.assertLessEqual(len(node.bases), 1)
+        self.assertEqual(node.keywords + node.decorator_list, [])
+        for part in node.body:
+            self.assertIsInstance(part, (ast.FunctionDef, ast.Pass))
+
+    def test_top_of_a_module(self):
+        for path in FILES:
+            tree = tree_of(path)
+            for place, node in enumerate(tree.body):
+                if place > 0 or not is_docstring(node):
+                    self.assertIsInstance(node, TOP_NODES, path.name)
+            bound = names_bound(tree)
+            self.assertEqual(len(bound), len(set(bound)), path.name)
+
+    def test_imports(self):
+        self.each(self.check_imports, ast.ImportFrom)
+
+    def check_imports(self, node):
+        self.assertEqual(node.level, 0)
+        self.assertRegex(node.module, r"^shutpairs\.[a-z_]+$")
+        source = tree_of(PACKAGE / (node.module.split(".")[1] + ".py"))
+        defined = [part.name for part in source.body if isinstance(part, (ast.FunctionDef, ast.ClassDef))]
+        assigned = [part.targets[0].id for part in source.body if isinstance(part, ast.Assign)]
+        for alias in node.names:
+            self.assertIn(alias.name, defined + assigned)
+
+    def test_no_two_files_draw_from_one_another(self):
+        drawn = {path.stem: {node.module.split(".")[1] for node in nodes_of(path, ast.ImportFrom)} for path in FILES}
+        while drawn:
+            free = [name for name, sources in drawn.items() if not sources & set(drawn)]
+            self.assertTrue(free, drawn)
+            for name in free:
+                drawn.pop(name)
+
+    def test_statements_and_expressions(self):
+        self.each(self.check_statements_and_expressions, ast.AST)
+
+    def check_statements_and_expressions(self, node):
+        self.assertIsInstance(node, NODES)
+        if isinstance(node, ast.Constant):
+            self.assertIsInstance(node.value, (int, str, bool, None.__class__))
+        if isinstance(node, ast.Expr) and not is_docstring(node):
+            self.assertIsInstance(node.value, ast.Call)
+        if isinstance(node, ast.Assign):
+            self.assertEqual(len(node.targets), 1)
+        if isinstance(node, (ast.For, ast.While)):
+            self.assertEqual(node.orelse, [])
+        if isinstance(node, ast.Try):
+            self.assertEqual(node.finalbody, [])
+        if isinstance(node, ast.ListComp):
+            self.assertEqual(len(node.generators), 1)
+            self.assertLessEqual(len(node.generators[0].ifs), 1)
+
+    def test_is_beside_none_and_truths_alone(self):
+        self.each(self.check_is_beside_none_and_truths_alone, ast.Compare)
+
+    def check_is_beside_none_and_truths_alone(self, node):
+        for sign, right in zip(node.ops, node.comparators):
+            if isinstance(sign, (ast.Is, ast.IsNot)):
+                self.assertIsInstance(right, ast.Constant)
+                self.assertIn(right.value, (None, True, False))
+
+    def test_names(self):
+        self.each(self.check_names, ast.Name, ast.arg, ast.FunctionDef, ast.ClassDef)
+
+    def check_names(self, node):
+        name = getattr(node, "id", None) or getattr(node, "arg", None) or node.name
+        if name not in TWO_UNDERSCORES:
+            self.assertRegex(name, r"^[A-Za-z][A-Za-z0-9_]*$")
+        if isinstance(node, ast.Name) and isinstance(node.ctx, ast.Load):
+            self.assertTrue(name in OWN_NAMES or name not in dir(builtins), name)
+        else:
+            self.assertNotIn(name, dir(builtins))
+
+    def test_methods_that_are_called(self):
+        self.each(self.check_method_called, ast.Call)
+
+    def check_method_called(self, node):
+        if isinstance(node.func, ast.Attribute):
+            self.assertIn(node.func.attr, OWN_METHODS | TWO_UNDERSCORES | DEFINED)
+
+
+if __name__ == "__main__":
+    unittest.main()
