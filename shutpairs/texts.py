@@ -2,11 +2,11 @@
 
 from shutpairs.errors import NoText
 from shutpairs.heaps import heap_of
+from shutpairs.rules import MOST_HEAPS
 
 FIGURES = "0123456789"
 MOST_FIGURES = 60
 MOST_PARTS = 60
-MOST_HEAPS = 6
 
 
 def heap_text(heap):

@@ -31,6 +31,17 @@ NODES = tuple(getattr(ast, name) for name in """
     BinOp UnaryOp BoolOp Compare IfExp JoinedStr FormattedValue expr_context
     Add Sub Mult FloorDiv Mod Pow BitAnd BitOr BitXor LShift RShift UAdd USub Invert Not And Or cmpop
 """.split())
+NAMES_NOWHERE = set("""
+    register mro elements open input version_info with_traceback add_note format format_map attrgetter breakpoint
+    builtins compile copyright credits delattr dir eval exec exit gc getattr globals hasattr help id importlib
+    license locals methodcaller os quit setattr super vars sys chr sort
+""".split())
+KEYWORDS = {
+    "sorted": {"key", "reverse"}, "min": {"key", "default"}, "max": {"key", "default"},
+    "sum": {"start"}, "enumerate": {"start"}, "zip": {"strict"},
+}
+WALKED_AT_ONCE = {"zip", "enumerate", "reversed", "range"}
+WALKERS = {"list", "tuple", "dict", "sorted", "sum", "any", "all", "enumerate", "zip", "min", "max"}
 TOP_NODES = (ast.ImportFrom, ast.FunctionDef, ast.ClassDef, ast.Assign)
 
 
@@ -178,6 +189,61 @@ class Language(unittest.TestCase):
     def check_method_called(self, node):
         if isinstance(node.func, ast.Attribute):
             self.assertIn(node.func.attr, OWN_METHODS | TWO_UNDERSCORES | DEFINED)
+
+    def test_names_that_are_not_used(self):
+        self.each(self.check_name_not_used, ast.Name, ast.Attribute, ast.arg, ast.FunctionDef, ast.ClassDef)
+
+    def check_name_not_used(self, node):
+        names = [getattr(node, field, None) for field in ("id", "attr", "arg", "name")]
+        self.assertEqual(NAMES_NOWHERE & set(names), set())
+
+    def test_no_local_is_called_like_a_class_or_an_import(self):
+        for path in FILES:
+            taken = [node.name for node in nodes_of(path, ast.ClassDef)]
+            for node in nodes_of(path, ast.ImportFrom):
+                taken.extend(alias.asname or alias.name for alias in node.names)
+            given = [node.arg for node in nodes_of(path, ast.arg)]
+            stored = [node.id for node in nodes_of(path, ast.Name) if isinstance(node.ctx, ast.Store)]
+            self.assertEqual(set(taken) & set(given + stored), set(), path.name)
+
+    def test_no_name_is_a_method_and_a_value(self):
+        methods, values = set(), set()
+        for path in FILES:
+            for node in nodes_of(path, ast.ClassDef):
+                methods.update(part.name for part in node.body if isinstance(part, ast.FunctionDef))
+            for node in nodes_of(path, ast.Attribute):
+                if isinstance(node.ctx, ast.Store):
+                    values.add(node.attr)
+        self.assertEqual(methods & values, set())
+
+    def test_keywords(self):
+        self.each(self.check_keywords, ast.Call)
+
+    def check_keywords(self, node):
+        if node.keywords:
+            self.assertIsInstance(node.func, ast.Name)
+            self.assertLessEqual({given.arg for given in node.keywords}, KEYWORDS.get(node.func.id, set()))
+
+    def test_walked_at_once(self):
+        for path in FILES:
+            walked = [node.iter for node in nodes_of(path, ast.For, ast.comprehension)]
+            for node in nodes_of(path, ast.Call):
+                if isinstance(node.func, ast.Name) and node.func.id in WALKERS:
+                    walked.extend(node.args)
+            places = {(node.lineno, node.col_offset) for node in walked}
+            for node in nodes_of(path, ast.Call):
+                if isinstance(node.func, ast.Name) and node.func.id in WALKED_AT_ONCE:
+                    self.assertIn((node.lineno, node.col_offset), places, path.name)
+
+    def test_powers_and_texts(self):
+        self.each(self.check_powers_and_texts, ast.BinOp, ast.Constant)
+
+    def check_powers_and_texts(self, node):
+        if isinstance(node, ast.BinOp) and isinstance(node.op, ast.Pow):
+            self.assertIsInstance(node.right, ast.Constant)
+            self.assertIn(node.right.value, range(65))
+        if isinstance(node, ast.Constant) and isinstance(node.value, str):
+            self.assertNotIn("%", node.value)
 
 
 if __name__ == "__main__":
