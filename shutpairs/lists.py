@@ -1,9 +1,9 @@
 """The partings of a number, falling: all of them, those that keep a rule, and their places."""
 
 from shutpairs.bounds import refuse_beyond
-from shutpairs.errors import NoPlace, NotKept
+from shutpairs.errors import NoPlace
 from shutpairs.heaps import sum_of
-from shutpairs.rules import first_in, keeps
+from shutpairs.rules import keeps, refuse_unkept
 
 MOST_LISTED = 24
 
@@ -34,9 +34,7 @@ def by_parts(rule, n):
 
 def place_of(rule, heap):
     refuse_beyond(sum_of(heap), MOST_LISTED)
-    number = first_in(rule, heap)
-    if number is not None:
-        raise NotKept(number)
+    refuse_unkept(rule, heap)
     return kept_of(rule, sum_of(heap)).index(heap)
 
 

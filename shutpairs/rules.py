@@ -1,6 +1,6 @@
 """Rules: tuples of none to six heaps, numbered from 0 on, and what keeps them."""
 
-from shutpairs.errors import NoRule
+from shutpairs.errors import NoRule, NotKept
 from shutpairs.heaps import heap_of, lies_in
 
 MOST_HEAPS = 6
@@ -22,3 +22,9 @@ def first_in(rule, heap):
 
 def keeps(rule, heap):
     return first_in(rule, heap) is None
+
+
+def refuse_unkept(rule, heap):
+    number = first_in(rule, heap)
+    if number is not None:
+        raise NotKept(number)
