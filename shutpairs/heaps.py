@@ -2,6 +2,8 @@
 
 from shutpairs.errors import NoHeap, NotIn
 
+MOST_PARTS = 60
+
 
 def heap_of(parts):
     for part in parts:

@@ -2,13 +2,12 @@
 
 from shutpairs.bounds import refuse_beyond
 from shutpairs.errors import LeftOver, NotStrict
-from shutpairs.heaps import unlike_parts
 
 MOST_LEFT = 5000
 
 
 def is_strict(heap):
-    return len(unlike_parts([heap])) == len(heap)
+    return len(set(heap)) == len(heap)
 
 
 def refuse_unstrict(heap):

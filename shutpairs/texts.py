@@ -1,12 +1,11 @@
 """Heaps and rules written as texts, and read back."""
 
 from shutpairs.errors import NoText
-from shutpairs.heaps import heap_of
+from shutpairs.heaps import MOST_PARTS, heap_of
 from shutpairs.rules import MOST_HEAPS
 
 FIGURES = "0123456789"
 MOST_FIGURES = 60
-MOST_PARTS = 60
 
 
 def heap_text(heap):

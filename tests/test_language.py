@@ -235,6 +235,64 @@ class Language(unittest.TestCase):
                 if isinstance(node.func, ast.Name) and node.func.id in WALKED_AT_ONCE:
                     self.assertIn((node.lineno, node.col_offset), places, path.name)
 
+    def test_values_at_the_top(self):
+        for path in FILES:
+            above = set()
+            for node in tree_of(path).body:
+                if isinstance(node, ast.FunctionDef):
+                    above.add(node.name)
+                if isinstance(node, ast.Assign):
+                    with self.subTest(file=path.name, line=node.lineno):
+                        self.assertIsInstance(node.targets[0], ast.Name)
+                        self.check_value_at_the_top(node.value, above, (ast.List, ast.Tuple, ast.Dict))
+
+    def check_value_at_the_top(self, value, above, holders):
+        if isinstance(value, ast.Name):
+            self.assertIn(value.id, above)
+        elif isinstance(value, holders):
+            within = value.keys + value.values if isinstance(value, ast.Dict) else value.elts
+            for part in within:
+                self.check_value_at_the_top(part, above, (ast.Tuple,))
+        else:
+            self.assertIsInstance(value, ast.Constant)
+
+    def test_lists_and_dicts_of_the_top_are_only_read(self):
+        for path in FILES:
+            assigned = [node for node in tree_of(path).body if isinstance(node, ast.Assign)]
+            kept = {node.targets[0].id for node in assigned if isinstance(node.value, (ast.List, ast.Dict))}
+            read = set()
+            for node in nodes_of(path, ast.Subscript, ast.Compare):
+                if isinstance(node, ast.Compare):
+                    read.update((part.lineno, part.col_offset) for part in node.comparators)
+                elif isinstance(node.ctx, ast.Load):
+                    read.add((node.value.lineno, node.value.col_offset))
+            for node in nodes_of(path, ast.Name):
+                if node.id in kept and isinstance(node.ctx, ast.Load):
+                    self.assertIn((node.lineno, node.col_offset), read, path.name)
+
+    def test_errors_that_are_taken(self):
+        self.each(self.check_error_taken, ast.ExceptHandler)
+
+    def check_error_taken(self, node):
+        self.assertIsInstance(node.type, ast.Name)
+        self.assertNotIn(node.type.id, ("Exception", "TypeError", "ValueError", "LookupError", "IndexError"))
+
+    def test_no_annotations(self):
+        for path in FILES:
+            self.assertEqual([node for node in nodes_of(path, ast.arg) if node.annotation], [], path.name)
+            self.assertEqual([node for node in nodes_of(path, ast.FunctionDef) if node.returns], [], path.name)
+
+    def test_sets_stand_within_len_or_sorted(self):
+        for path in FILES:
+            self.assertEqual(nodes_of(path, ast.Set), [], path.name)
+            within = set()
+            for node in nodes_of(path, ast.Call):
+                if isinstance(node.func, ast.Name) and node.func.id in ("len", "sorted") and not node.keywords:
+                    within.update((part.lineno, part.col_offset) for part in node.args)
+            for node in nodes_of(path, ast.Call):
+                if isinstance(node.func, ast.Name) and node.func.id in ("set", "frozenset"):
+                    self.assertIn((node.lineno, node.col_offset), within, path.name)
+
     def test_powers_and_texts(self):
         self.each(self.check_powers_and_texts, ast.BinOp, ast.Constant)
 
